@@ -239,7 +239,9 @@ func mix(h, n uint64) uint64 {
 	return h ^ h>>29
 }
 
-func word64(w api.Word) uint64 { return mix(mix(uint64(w.Val), uint64(w.Ver)), uint64(w.Ref)) }
+func word64(w api.Word) uint64 {
+	return mix(mix(mix(1, uint64(w.Val)), uint64(w.Ver)), uint64(w.Ref))
+}
 
 // key returns a number of what the threads have got so far, and of the memory. All that follows depends on nothing else,
 // as long as no Load may be stale.
